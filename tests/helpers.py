@@ -1,6 +1,9 @@
 """What several tests need: written-out steps by another way than the package's, and odd values."""
 
 import itertools
+import random
+
+from plotpens.errors import TooLarge
 
 
 class Same:
@@ -91,3 +94,88 @@ def short_texts():
 def nested(depth, inside="f", number=2):
     """A text with repeats nested so deep."""
     return " ".join(["("] * depth + [inside] + [f"){number}"] * depth)
+
+
+class Whole(int):
+    """An integer of a kind of its own."""
+
+
+WRONG_POINTS = WRONG_VALUES + ["ab", "", [0, 0], (), (0,), (0, 0, 0), (True, 0), (0, False), (None, 0), (0, "0"), ((0, 0),),
+                               (0, b"0"), ([0], 0), {0: 0, 1: 1}, ((0, 0), (0, 0)), [(0, 0)], (Same(), 0), (0, Same())]
+WRONG_POSES = WRONG_VALUES + ["abc", "", [0, 0, 0], (), (0,), (0, 0), (0, 0, 0, 0), (True, 0, 0), (0, False, 0), (0, 0, True),
+                              (0, 0, False), (0, 0, -1), (0, 0, 4), (0, 0, 10 ** 99), (None, 0, 0), (0, "0", 0), (0, 0, "0"),
+                              (0, 0, None), ((0, 0), 0), ([0], 0, 0), (0, 0, Same()), (Same(), 0, 0), {0: 0, 1: 1, 2: 2}]
+WRONG_EDGES = WRONG_VALUES + ["abc", "", [0, 0, 0], (), (0,), (0, 0), (0, 0, 0, 0), (True, 0, 0), (0, False, 0), (0, 0, True),
+                              (0, 0, False), (0, 0, -1), (0, 0, 2), (0, 0, 10 ** 99), (None, 0, 0), (0, "0", 0), (0, 0, "0"),
+                              (0, 0, None), ((0, 0), 0), ([0], 0, 0), (0, 0, Same()), (Same(), 0, 0),
+                              ((0, 0), (1, 0)), [(0, 0, 0)]]
+WORDS = ["f", "f2", "f3", "b", "b2", "l", "r", "l2", "r3", "u", "d", "d2", "u2"]
+
+
+def walk(steps, start=(0, 0, 0), pen=True):
+    """All that is so after each number of steps, from 0 on: x, y, heading, whether the pen is down."""
+    x, y, heading = start
+    found = [(x, y, heading, pen)]
+    for step in steps:
+        way = {0: 1, 1: 1j, 2: -1, 3: -1j}[heading]
+        if step == "f":
+            x, y = x + int(way.real), y + int(way.imag)
+        elif step == "b":
+            x, y = x - int(way.real), y - int(way.imag)
+        elif step == "l":
+            heading = 0 if heading == 3 else heading + 1
+        elif step == "r":
+            heading = 3 if heading == 0 else heading - 1
+        else:
+            pen = step == "d"
+        found.append((x, y, heading, pen))
+    return found
+
+
+def edges_passed(steps, start=(0, 0, 0), pen=True):
+    """The edges that are passed with the pen down, in order, each as often as it is passed."""
+    found = []
+    rows = walk(steps, start, pen)
+    for (x, y, _, down), (next_x, next_y, _, _) in zip(rows, rows[1:]):
+        if down and (x, y) != (next_x, next_y):
+            found.append((min(x, next_x), min(y, next_y), int(x == next_x)))
+    return found
+
+
+def odd_ones(values):
+    """The ascending list of what stands in a list an odd number of times."""
+    return sorted(value for value in set(values) if values.count(value) % 2 == 1)
+
+
+def some_texts(seed, many, most_words=14):
+    """Program texts of all kinds of steps and repeats, always the same ones."""
+    chance = random.Random(seed)
+    found = []
+    while len(found) < many:
+        words = [chance.choice(WORDS) for _ in range(chance.randrange(most_words + 1))]
+        for _ in range(chance.randrange(3)):
+            start = chance.randrange(len(words) + 1)
+            end = chance.randrange(start, len(words) + 1)
+            words[start:end] = ["("] + words[start:end] + [f"){chance.randrange(2, 4)}"]
+        if is_text(words):
+            found.append(" ".join(words))
+    return found
+
+
+def check_errors(test, call, parameters):
+    """Each parameter is a good value, its wrong values and their error: the first wrong one counts, whatever is behind."""
+    for at, (_, wrong_values, error) in enumerate(parameters):
+        front = [good for good, _, _ in parameters[:at]]
+        behind = [good for good, _, _ in parameters[at + 1:]]
+        also_wrong = [wrong[0] for _, wrong, _ in parameters[at + 1:]]
+        for value in wrong_values:
+            for rest in [behind, also_wrong]:
+                with test.subTest(at=at, value=repr(value)[:80]), test.assertRaises(error):
+                    call(*front, value, *rest)
+    call(*[good for good, _, _ in parameters])
+
+
+def check_too_large(test, limit, call):
+    with test.assertRaises(TooLarge) as caught:
+        call()
+    test.assertEqual(caught.exception.limit, limit)

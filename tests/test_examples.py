@@ -1,4 +1,4 @@
-"""The examples of sections 4 and 5 of the document, word for word."""
+"""The examples of sections 4 to 8 of the document, word for word."""
 
 import unittest
 
@@ -41,10 +41,48 @@ class ExamplesTest(unittest.TestCase):
             read_source("side: f x\nside")
         self.assertEqual((caught.exception.line, caught.exception.index), (0, 2))
 
-    def test_table_of_programs(self):
+    def test_motions(self):
+        from plotpens.motions import Motion, motion_of, pose_after
         from plotpens.programs import Program
-        texts = ["f l f2 r", "( f l )4", "f2 b", "u f d f"]
-        self.assertEqual([Program(text).length for text in texts], [5, 8, 3, 4])
+        corner, stair = Motion(1, 1, 0), Program("f l f2 r")
+        far = motion_of(stair) * 10 ** 30
+        self.assertEqual(
+            [corner((0, 0, 3)), (corner + corner).shift, corner.order(), -corner == Motion(3, 0, 1),
+             far.shift[0] == 10 ** 30, pose_after(stair * 10, 7)],
+            [(0, -1, 0), (1, 1), 4, True, True, (2, 2, 1)])
+
+    def test_paths(self):
+        from plotpens.paths import first_at, points_of, stretches_of
+        from plotpens.programs import Program
+        stair = Program("f l f2 r")
+        self.assertEqual(
+            [points_of(stair), stretches_of(Program("f u f d f2")),
+             [first_at(stair, point) for point in [(1, 1), (5, 9), (0, 5)]]],
+            [[(0, 0), (1, 0), (1, 1), (1, 2)], [((0, 0), (1, 0)), ((2, 0), (3, 0), (4, 0))], [3, 23, None]])
+
+    def test_pictures(self):
+        from plotpens.pictures import Picture, drawn, edge_between, passes_of
+        from plotpens.programs import Program
+        nibble = Program("f2 b")
+        self.assertEqual(
+            [drawn(nibble).edges, passes_of(nibble), edge_between((1, 0), (0, 0)), edge_between((0, 0), (1, 1))],
+            [((0, 0, 0),), [((0, 0, 0), 1), ((1, 0, 0), 2)], (0, 0, 0), None])
+        one, two = Picture([(0, 0, 0), (0, 0, 1)]), Picture([(5, 5, 0), (0, 0, 1)])
+        self.assertEqual(
+            [(one ^ two).edges, one.turned(1).edges, one.moved(2, 0).edges],
+            [((0, 0, 0), (5, 5, 0)), ((-1, 0, 0), (0, 0, 1)), ((2, 0, 0), (2, 0, 1))])
+
+    def test_table_of_programs(self):
+        from plotpens.motions import Motion, motion_of
+        from plotpens.pictures import drawn
+        from plotpens.programs import Program
+        table = [("f l f2 r", 5, (0, 1, 2), ((0, 0, 0), (1, 0, 1), (1, 1, 1))),
+                 ("( f l )4", 8, (0, 0, 0), ((0, 0, 0), (0, 0, 1), (0, 1, 0), (1, 0, 1))),
+                 ("f2 b", 3, (0, 1, 0), ((0, 0, 0),)), ("u f d f", 4, (0, 2, 0), ((1, 0, 0),))]
+        for text, length, motion, edges in table:
+            program = Program(text)
+            self.assertEqual((program.length, drawn(program).edges), (length, edges))
+            self.assertEqual(motion_of(program), Motion(*motion))
 
 
 if __name__ == "__main__":

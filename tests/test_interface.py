@@ -7,7 +7,10 @@ import unittest
 
 import plotpens
 from helpers import nested
-from plotpens import errors, programs, sources
+from plotpens import errors, motions, paths, pictures, programs, sources
+from plotpens.motions import Motion, motion_of, pen_after, pose_after
+from plotpens.paths import first_at, points_of, stretches_of
+from plotpens.pictures import Picture, drawn, edge_between, is_edge, passes_of
 from plotpens.programs import Program, count_steps, step_at, steps_from, written
 from plotpens.sources import names_of, read_source, routine
 
@@ -16,8 +19,28 @@ FUNCTIONS = {
     programs: {"step_at": ["program", "index"], "steps_from": ["program", "index"],
                "count_steps": ["program", "letter"], "written": ["program"]},
     sources: {"read_source": ["source"], "routine": ["source", "name"], "names_of": ["source"]},
+    motions: {"motion_of": ["program"], "pose_after": ["program", "index", "*start"], "pen_after": ["program", "*pen"]},
+    paths: {"points_of": ["program", "*start"], "stretches_of": ["program", "*start", "*pen"],
+            "first_at": ["program", "point"]},
+    pictures: {"is_edge": ["value"], "edge_between": ["point", "other_point"], "drawn": ["program", "*start", "*pen"],
+               "passes_of": ["program", "*start", "*pen"]},
 }
+CLASSES = {
+    Program: ("plotpens.programs", ["text"], ["__init__", "__len__", "__eq__", "__contains__", "__add__", "__mul__",
+                                              "__neg__", "__invert__", "text", "length", "depth"]),
+    Motion: ("plotpens.motions", ["turn", "dx", "dy"], ["__init__", "__call__", "__eq__", "__add__", "__mul__", "__neg__",
+                                                        "turn", "shift", "order"]),
+    Picture: ("plotpens.pictures", ["edges"], ["__init__", "__len__", "__eq__", "__contains__", "__xor__", "edges", "moved",
+                                               "turned"]),
+}
+DEFAULTS = {"start": (0, 0, 0), "pen": True}
 FIELDS = {"InvalidText": ["index"], "InvalidSource": ["line", "index"], "TooDeep": ["limit"], "TooLarge": ["limit"]}
+
+
+def parameters_of(function):
+    """The names of the parameters, with a star in front if they are passed by keyword."""
+    parameters = inspect.signature(function).parameters.values()
+    return ["*" * (parameter.kind == inspect.Parameter.KEYWORD_ONLY) + parameter.name for parameter in parameters]
 
 
 class InterfaceTest(unittest.TestCase):
@@ -26,14 +49,27 @@ class InterfaceTest(unittest.TestCase):
             for name, parameters in functions.items():
                 function = getattr(module, name)
                 self.assertEqual(function.__module__, module.__name__)
-                self.assertEqual(list(inspect.signature(function).parameters), parameters)
+                self.assertEqual(parameters_of(function), parameters)
 
-    def test_program_defines_what_is_listed(self):
-        self.assertEqual(Program.__module__, "plotpens.programs")
-        self.assertEqual(list(inspect.signature(Program).parameters), ["text"])
-        for name in ["__init__", "__len__", "__eq__", "__contains__", "__add__", "__mul__", "__neg__", "__invert__",
-                     "text", "length", "depth"]:
-            self.assertIn(name, vars(Program))
+    def test_parameters_by_keyword_have_their_defaults(self):
+        for module, functions in FUNCTIONS.items():
+            for name in functions:
+                for parameter in inspect.signature(getattr(module, name)).parameters.values():
+                    default = DEFAULTS.get(parameter.name, inspect.Parameter.empty)
+                    self.assertEqual(parameter.default, default)
+
+    def test_classes_define_what_is_listed(self):
+        for kind, (module, parameters, names) in CLASSES.items():
+            self.assertEqual(kind.__module__, module)
+            self.assertEqual(parameters_of(kind), parameters)
+            for name in names:
+                self.assertIn(name, vars(kind))
+
+    def test_methods_take_what_is_listed(self):
+        self.assertEqual(parameters_of(Motion.__call__), ["self", "pose"])
+        self.assertEqual(parameters_of(Motion.order), ["self"])
+        self.assertEqual(parameters_of(Picture.moved), ["self", "dx", "dy"])
+        self.assertEqual(parameters_of(Picture.turned), ["self", "quarters"])
 
     def test_errors_take_their_fields(self):
         for name, fields in FIELDS.items():
@@ -56,6 +92,31 @@ class InterfaceTest(unittest.TestCase):
         self.assertIs(type(read_source(source)), Program)
         self.assertIs(type(routine(source, "side")), Program)
         self.assertIs(type(names_of(source)), list)
+
+    def test_kinds_of_values_of_motions_and_paths(self):
+        program, motion = Program("f l f"), Motion(1, 2, 3)
+        self.assertIs(type(motion.turn), int)
+        for value in [motion.shift, motion((0, 0, 0)), pose_after(program, 2), points_of(program)[0], stretches_of(program)[0]]:
+            self.assertIs(type(value), tuple)
+        for value in [motion + motion, motion * -2, -motion, motion_of(program)]:
+            self.assertIs(type(value), Motion)
+        for value in [motion.order(), first_at(program, (1, 1))]:
+            self.assertIs(type(value), int)
+        for value in [motion == motion, motion != motion, pen_after(program)]:
+            self.assertIs(type(value), bool)
+        for value in [points_of(program), stretches_of(program)]:
+            self.assertIs(type(value), list)
+
+    def test_kinds_of_values_of_pictures(self):
+        program, picture = Program("f l f"), Picture([(0, 0, 0)])
+        for value in [picture.edges, picture.edges[0], edge_between((0, 0), (0, 1)), passes_of(program)[0]]:
+            self.assertIs(type(value), tuple)
+        for value in [picture ^ picture, picture.moved(1, 2), picture.turned(3), drawn(program)]:
+            self.assertIs(type(value), Picture)
+        for value in [picture == picture, picture != picture, (0, 0, 0) in picture, is_edge(5)]:
+            self.assertIs(type(value), bool)
+        self.assertIs(type(len(picture)), int)
+        self.assertIs(type(passes_of(program)), list)
 
 
 class ConventionsTest(unittest.TestCase):
