@@ -3,9 +3,7 @@
 from plotpens.checks import check_point, check_pose
 from plotpens.motions import motion_of
 from plotpens.programs import check_program
-from plotpens.tracks import poses_of, track_of
-
-ORIGIN = (0, 0, 0)
+from plotpens.tracks import ORIGIN, poses_of, track_of
 
 
 def points_of(program, *, start=(0, 0, 0)):

@@ -3,6 +3,7 @@
 from plotpens.checks import check_point, check_pose, is_integer_within, is_point, is_tuple_of
 from plotpens.errors import InvalidPicture, InvalidTurn
 from plotpens.programs import check_program
+from plotpens.tallies import odd_ones, tally
 from plotpens.tracks import track_of
 
 
@@ -70,20 +71,23 @@ def drawn(program, *, start=(0, 0, 0), pen=True):
     """The picture that a program draws."""
     check_program(program)
     check_pose(start)
-    return Picture([edge for edge, number in _passes(program, start, pen) if number % 2 == 1])
+    return Picture(odd_ones(_passed(program, start, pen)))
 
 
 def passes_of(program, *, start=(0, 0, 0), pen=True):
     """The ascending list of the edges that are passed with the pen down, each with the number of passes."""
     check_program(program)
     check_pose(start)
-    return _passes(program, start, pen)
+    passes = tally(_passed(program, start, pen))
+    return sorted(passes.items())
 
 
 def ends_of_edge(edge):
     """The two points at which an edge ends, the least first."""
     x, y, side = edge
-    return [(x, y), (x + 1, y) if side == 0 else (x, y + 1)]
+    if side == 0:
+        return ((x, y), (x + 1, y))
+    return ((x, y), (x, y + 1))
 
 
 def check_edges(edges):
@@ -98,13 +102,10 @@ def check_picture(picture):
         raise InvalidPicture("not a Picture")
 
 
-def _passes(program, start, pen):
-    passes = {}
-    for before, after, stretch in track_of(program, start, pen):
-        if stretch is not None:
-            edge = edge_between(before, after)
-            passes[edge] = passes.get(edge, 0) + 1
-    return sorted(passes.items())
+def _passed(program, start, pen):
+    """The edges that are passed with the pen down, one for each pass."""
+    moves = track_of(program, start, pen)
+    return [edge_between(before, after) for before, after, stretch in moves if stretch is not None]
 
 
 def _turned_edge(edge):

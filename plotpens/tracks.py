@@ -3,6 +3,8 @@
 from plotpens.motions import motion_of_letter
 from plotpens.programs import written
 
+ORIGIN = (0, 0, 0)
+
 
 def poses_of(program, start):
     """The list of the poses: the first one, and one after each step. TooLarge(1000) is raised for longer programs."""

@@ -179,3 +179,54 @@ def check_too_large(test, limit, call):
     with test.assertRaises(TooLarge) as caught:
         call()
     test.assertEqual(caught.exception.limit, limit)
+
+
+def ends(edge):
+    """The two points at which an edge ends."""
+    x, y, side = edge
+    return {0: ((x, y), (x + 1, y)), 1: ((x, y), (x, y + 1))}[side]
+
+
+def edge_of_ends(one, two):
+    """The edge between two neighbours."""
+    (x, y), (last_x, _) = sorted([one, two])
+    return (x, y, 1 if last_x == x else 0)
+
+
+def all_ends(edges):
+    """The points at which edges end, each as often as it is one."""
+    return [point for edge in edges for point in ends(edge)]
+
+
+def groups_of(edges):
+    """The edges that hang together, as ascending lists: lists that have a point in common are put together."""
+    groups = []
+    for edge in edges:
+        touching = [group for group in groups if set(all_ends(group)) & set(ends(edge))]
+        groups = [group for group in groups if group not in touching] + [sum(touching, []) + [edge]]
+    return sorted(sorted(group) for group in groups)
+
+
+def edges_of_strokes(strokes):
+    """The edges that strokes pass, each as often as it is passed."""
+    return [edge_of_ends(one, two) for stroke in strokes for one, two in zip(stroke, stroke[1:])]
+
+
+def all_edges(width, height):
+    """All edges between the points of a box."""
+    flat = [(x, y, 0) for x in range(width) for y in range(height + 1)]
+    return sorted(flat + [(x, y, 1) for x in range(width + 1) for y in range(height)])
+
+
+def some_sets(seed, many, values):
+    """Lists of different values, of all sizes, always the same ones."""
+    chance = random.Random(seed)
+    return [chance.sample(values, chance.randrange(len(values) + 1)) for _ in range(many)]
+
+
+def all_sets(values):
+    return [list(chosen) for many in range(len(values) + 1) for chosen in itertools.combinations(values, many)]
+
+
+def grid_of_faces(width, height):
+    return [(x, y) for x in range(width) for y in range(height)]

@@ -1,4 +1,4 @@
-"""The examples of sections 4 to 8 of the document, word for word."""
+"""The examples of sections 4 to 12 of the document, word for word."""
 
 import unittest
 
@@ -71,6 +71,50 @@ class ExamplesTest(unittest.TestCase):
         self.assertEqual(
             [(one ^ two).edges, one.turned(1).edges, one.moved(2, 0).edges],
             [((0, 0, 0), (5, 5, 0)), ((-1, 0, 0), (0, 0, 1)), ((2, 0, 0), (2, 0, 1))])
+
+    def test_odds(self):
+        from plotpens.odds import degree_at, ends_of, odd_points, parts_of
+        from plotpens.pictures import Picture, drawn
+        from plotpens.programs import Program
+        steps = drawn(Program("f l f2 r"))
+        self.assertEqual(
+            [odd_points(steps), degree_at(steps, (1, 0)), ends_of(Program("f u f d f2")),
+             len(parts_of(Picture([(0, 0, 0), (5, 5, 0)])))],
+            [[(0, 0), (1, 2)], 2, [(0, 0), (1, 0), (2, 0), (4, 0)], 2])
+
+    def test_strokes(self):
+        from plotpens.faces import outline_of
+        from plotpens.pictures import Picture
+        from plotpens.strokes import fewest_plain, fewest_toggled, is_plain, is_toggled, toggled_strokes
+        far, one = outline_of([(0, 0), (5, 5)]), Picture([(0, 0, 0)])
+        again = [is_plain(one, [((1, 0), (0, 0))]), is_toggled(one, [((0, 0), (1, 0), (2, 0), (1, 0))])]
+        self.assertEqual(
+            [fewest_plain(far), fewest_toggled(far), is_toggled(far, toggled_strokes(far)), again],
+            [2, 1, True, [True, True]])
+
+    def test_writing(self):
+        from plotpens.faces import outline_of
+        from plotpens.paths import stretches_of
+        from plotpens.pictures import drawn
+        from plotpens.programs import Program
+        from plotpens.writing import fewest_words, packed, program_for
+        far = outline_of([(0, 0), (5, 5)])
+        found = program_for(far)
+        self.assertEqual(
+            [drawn(found, pen=False) == far, len(stretches_of(found, pen=False)), fewest_words(Program("f l f l f l f l")),
+             packed(Program("f f2 f")).text],
+            [True, 1, 4, 'f4'])
+
+    def test_faces(self):
+        from plotpens.faces import area_of, count_inside, inside_of, outline_of, winding
+        from plotpens.pictures import drawn
+        from plotpens.programs import Program
+        self.assertEqual(
+            [inside_of(drawn(Program("( f2 l )4"))), len(outline_of([(0, 0), (1, 0)])), count_inside(outline_of([(0, 0), (5, 5)]))],
+            [[(0, 0), (0, 1), (1, 0), (1, 1)], 6, 2])
+        self.assertEqual(
+            [winding(Program("( f l )12"), (0, 0)), winding(Program("( f l )12"), (1, 0)), area_of(Program("( f2 r )4"))],
+            [3, 0, -4])
 
     def test_table_of_programs(self):
         from plotpens.motions import Motion, motion_of

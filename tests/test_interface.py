@@ -7,12 +7,16 @@ import unittest
 
 import plotpens
 from helpers import nested
-from plotpens import errors, motions, paths, pictures, programs, sources
+from plotpens import errors, faces, motions, odds, paths, pictures, programs, sources, strokes, writing
+from plotpens.faces import area_of, count_inside, inside_of, is_inside, outline_of, winding
 from plotpens.motions import Motion, motion_of, pen_after, pose_after
+from plotpens.odds import degree_at, ends_of, is_even, odd_points, parts_of
 from plotpens.paths import first_at, points_of, stretches_of
 from plotpens.pictures import Picture, drawn, edge_between, is_edge, passes_of
 from plotpens.programs import Program, count_steps, step_at, steps_from, written
 from plotpens.sources import names_of, read_source, routine
+from plotpens.strokes import fewest_plain, fewest_toggled, is_plain, is_toggled, plain_strokes, toggled_strokes
+from plotpens.writing import fewest_words, packed, program_for
 
 PACKAGE = pathlib.Path(plotpens.__file__).parent
 FUNCTIONS = {
@@ -24,6 +28,13 @@ FUNCTIONS = {
             "first_at": ["program", "point"]},
     pictures: {"is_edge": ["value"], "edge_between": ["point", "other_point"], "drawn": ["program", "*start", "*pen"],
                "passes_of": ["program", "*start", "*pen"]},
+    odds: {"degree_at": ["picture", "point"], "odd_points": ["picture"], "is_even": ["picture"], "parts_of": ["picture"],
+           "ends_of": ["program", "*start", "*pen"]},
+    strokes: {"fewest_plain": ["picture"], "plain_strokes": ["picture"], "is_plain": ["picture", "value"],
+              "fewest_toggled": ["picture"], "toggled_strokes": ["picture"], "is_toggled": ["picture", "value"]},
+    writing: {"program_for": ["picture"], "fewest_words": ["program"], "packed": ["program"]},
+    faces: {"inside_of": ["picture"], "count_inside": ["picture"], "is_inside": ["picture", "face"], "outline_of": ["faces"],
+            "winding": ["program", "face"], "area_of": ["program"]},
 }
 CLASSES = {
     Program: ("plotpens.programs", ["text"], ["__init__", "__len__", "__eq__", "__contains__", "__add__", "__mul__",
@@ -118,6 +129,30 @@ class InterfaceTest(unittest.TestCase):
         self.assertIs(type(len(picture)), int)
         self.assertIs(type(passes_of(program)), list)
 
+    def test_kinds_of_values_of_odds_and_strokes(self):
+        program, picture = Program("f l f"), Picture([(0, 0, 0)])
+        for value in [odd_points(picture), parts_of(picture), ends_of(program), plain_strokes(picture), toggled_strokes(picture)]:
+            self.assertIs(type(value), list)
+        for value in [odd_points(picture)[0], ends_of(program)[0], plain_strokes(picture)[0], toggled_strokes(picture)[0],
+                      plain_strokes(picture)[0][0], toggled_strokes(picture)[0][0]]:
+            self.assertIs(type(value), tuple)
+        for value in [degree_at(picture, (0, 0)), fewest_plain(picture), fewest_toggled(picture)]:
+            self.assertIs(type(value), int)
+        for value in [is_even(picture), is_plain(picture, []), is_plain(picture, None), is_toggled(picture, []),
+                      is_toggled(picture, None)]:
+            self.assertIs(type(value), bool)
+
+    def test_kinds_of_values_of_writing_and_faces(self):
+        program, picture = Program("( f l )4"), outline_of([(0, 0)])
+        for value in [program_for(picture), packed(program)]:
+            self.assertIs(type(value), Program)
+        for value in [fewest_words(program), count_inside(picture), winding(program, (0, 0)), area_of(program)]:
+            self.assertIs(type(value), int)
+        self.assertIs(type(inside_of(picture)), list)
+        self.assertIs(type(inside_of(picture)[0]), tuple)
+        self.assertIs(type(is_inside(picture, (0, 0))), bool)
+        self.assertIs(type(picture), Picture)
+
 
 class ConventionsTest(unittest.TestCase):
     def test_equal_arguments_give_equal_results(self):
@@ -130,6 +165,9 @@ class ConventionsTest(unittest.TestCase):
             self.assertEqual(count_steps(one, "f"), count_steps(two, "f"))
             self.assertEqual(-one, -two)
             self.assertEqual(~one, ~two)
+            self.assertEqual(motion_of(one), motion_of(two))
+            self.assertEqual(Motion(1, 2, len(one)), Motion(1, 2, len(two)))
+            self.assertEqual(Picture([(len(one), 0, 0)]), Picture([(len(two), 0, 0)]))
 
     def test_programs_do_not_change(self):
         program = Program("( f2 ( l )3 )2 b")
@@ -156,6 +194,17 @@ class ConventionsTest(unittest.TestCase):
         deep = Program(nested(12, f"f{10 ** 30} l", 10 ** 30))
         self.assertEqual(step_at(deep, deep.length - 1), "l")
         self.assertEqual(list(steps_from(deep, deep.length)), [])
+        self.assertEqual(motion_of(deep)(pose_after(deep, deep.length)), pose_after(deep + deep, 2 * deep.length))
+
+    def test_larger_pictures_that_were_returned_may_be_passed_back(self):
+        square = drawn(Program("( f100 l )4"))
+        self.assertEqual(outline_of(inside_of(square)), square)
+        row = drawn(Program("f1000"))
+        wide = row ^ row.moved(1000, 0) ^ row.moved(0, 1) ^ row.moved(1000, 1)
+        self.assertEqual(Picture(list(wide.edges)), wide)
+        self.assertEqual(parts_of(wide), [row ^ row.moved(1000, 0), (row ^ row.moved(1000, 0)).moved(0, 1)])
+        self.assertEqual(is_plain(wide, plain_strokes(wide)), True)
+        self.assertEqual(len(plain_strokes(wide)), 2)
 
 
 class FormTest(unittest.TestCase):

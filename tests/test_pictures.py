@@ -4,7 +4,7 @@ import itertools
 import unittest
 
 from helpers import (WRONG_EDGES, WRONG_POINTS, WRONG_POSES, WRONG_VALUES, Whole, all_steps, check_errors, check_too_large,
-                     edges_passed, nested, odd_ones, short_texts, some_texts)
+                     edge_of_ends, edges_passed, ends, nested, odd_ones, short_texts, some_texts)
 from plotpens.errors import InvalidPicture, InvalidPoint, InvalidPose, InvalidProgram, InvalidTurn
 from plotpens.pictures import Picture, drawn, edge_between, is_edge, passes_of
 from plotpens.programs import Program
@@ -19,21 +19,10 @@ STARTS = [(0, 0, 0), (3, -2, 1), (-7, 5, 2), (FAR, -FAR, 3)]
 PENS = [True, False]
 
 
-def ends(edge):
-    x, y, side = edge
-    return {0: ((x, y), (x + 1, y)), 1: ((x, y), (x, y + 1))}[side]
-
-
-def edge_of_ends(points):
-    """The edge between two neighbours."""
-    (x, y), (last_x, _) = sorted(points)
-    return (x, y, 1 if last_x == x else 0)
-
-
 def turned_edges(edges, quarters):
     """The ascending tuple of edges that are turned point by point."""
     turns = {0: lambda x, y: (x, y), 1: lambda x, y: (-y, x), 2: lambda x, y: (-x, -y), 3: lambda x, y: (y, -x)}
-    return tuple(sorted(edge_of_ends([turns[quarters](*point) for point in ends(edge)]) for edge in edges))
+    return tuple(sorted(edge_of_ends(*[turns[quarters](*point) for point in ends(edge)]) for edge in edges))
 
 
 class PictureTest(unittest.TestCase):
