@@ -15,22 +15,22 @@ def inside_of(picture):
     """The ascending list of the faces inside a picture."""
     if count_inside(picture) > MOST_FACES:
         raise TooLarge(MOST_FACES)
-    return sorted([(x, y) for y, left, right in _rows_inside(picture) for x in range(left, right)])
+    return sorted([(x, y) for y, left, right in rows_inside(picture) for x in range(left, right)])
 
 
 def count_inside(picture):
     """The number of the faces inside a picture."""
     check_picture(picture)
-    _check_even(picture)
-    return sum([right - left for y, left, right in _rows_inside(picture)])
+    check_even(picture)
+    return sum([right - left for y, left, right in rows_inside(picture)])
 
 
 def is_inside(picture, face):
     """Whether a face is inside a picture."""
     check_picture(picture)
     check_face(face)
-    _check_even(picture)
-    rows = [(left, right) for y, left, right in _rows_inside(picture) if y == face[1]]
+    check_even(picture)
+    rows = [(left, right) for y, left, right in rows_inside(picture) if y == face[1]]
     return any([left <= face[0] < right for left, right in rows])
 
 
@@ -62,12 +62,12 @@ def check_face(face):
         raise InvalidFace("not a tuple of two integers")
 
 
-def _check_even(picture):
+def check_even(picture):
     if not is_even(picture):
         raise NotEven("the picture has odd points")
 
 
-def _rows_inside(picture):
+def rows_inside(picture):
     """The list of the rows of faces inside an even picture: the y of the faces, the least x, and the x behind them."""
     walls = {}
     for x, y, side in picture.edges:

@@ -1,7 +1,7 @@
 """Pictures, and what programs draw."""
 
 from plotpens.checks import check_point, check_pose, is_integer_within, is_point, is_tuple_of
-from plotpens.errors import InvalidPicture, InvalidTurn
+from plotpens.errors import InvalidEdge, InvalidPicture, InvalidTurn
 from plotpens.programs import check_program
 from plotpens.tallies import odd_ones, tally
 from plotpens.tracks import track_of
@@ -71,15 +71,21 @@ def drawn(program, *, start=(0, 0, 0), pen=True):
     """The picture that a program draws."""
     check_program(program)
     check_pose(start)
-    return Picture(odd_ones(_passed(program, start, pen)))
+    return Picture(odd_ones(edges_passed(program, start, pen)))
 
 
 def passes_of(program, *, start=(0, 0, 0), pen=True):
     """The ascending list of the edges that are passed with the pen down, each with the number of passes."""
     check_program(program)
     check_pose(start)
-    passes = tally(_passed(program, start, pen))
+    passes = tally(edges_passed(program, start, pen))
     return sorted(passes.items())
+
+
+def edges_passed(program, start, pen):
+    """The edges that are passed with the pen down, one for each pass."""
+    moves = track_of(program, start, pen)
+    return [edge_between(before, after) for before, after, stretch in moves if stretch is not None]
 
 
 def ends_of_edge(edge):
@@ -88,6 +94,11 @@ def ends_of_edge(edge):
     if side == 0:
         return ((x, y), (x + 1, y))
     return ((x, y), (x, y + 1))
+
+
+def check_edge(edge):
+    if not is_edge(edge):
+        raise InvalidEdge("not a tuple of two integers and a side")
 
 
 def check_edges(edges):
@@ -100,12 +111,6 @@ def check_edges(edges):
 def check_picture(picture):
     if not isinstance(picture, Picture):
         raise InvalidPicture("not a Picture")
-
-
-def _passed(program, start, pen):
-    """The edges that are passed with the pen down, one for each pass."""
-    moves = track_of(program, start, pen)
-    return [edge_between(before, after) for before, after, stretch in moves if stretch is not None]
 
 
 def _turned_edge(edge):

@@ -92,8 +92,7 @@ def count_steps(program, letter):
 def written(program):
     """The string of all steps."""
     check_program(program)
-    if program.length > MOST_STEPS:
-        raise TooLarge(MOST_STEPS)
+    check_length(program, MOST_STEPS)
     return "".join(steps_in(program._parts, 0))
 
 
@@ -108,6 +107,11 @@ def check_text(text):
 def check_program(program):
     if not isinstance(program, Program):
         raise InvalidProgram("not a Program")
+
+
+def check_length(program, most):
+    if program.length > most:
+        raise TooLarge(most)
 
 
 def check_index(index, most):

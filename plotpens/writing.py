@@ -4,7 +4,7 @@ from plotpens.checks import MOST_TIMES
 from plotpens.errors import TooLarge
 from plotpens.packing import packed_words
 from plotpens.pictures import check_picture, ends_of_edge
-from plotpens.programs import Program, check_program, written
+from plotpens.programs import Program, check_length, check_program, written
 from plotpens.routes import routes_of
 
 MOST_EDGES = 40
@@ -36,8 +36,7 @@ def packed(program):
 
 def _packed_words(program):
     check_program(program)
-    if program.length > MOST_PACKED:
-        raise TooLarge(MOST_PACKED)
+    check_length(program, MOST_PACKED)
     return packed_words(written(program))
 
 

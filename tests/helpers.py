@@ -230,3 +230,38 @@ def all_sets(values):
 
 def grid_of_faces(width, height):
     return [(x, y) for x in range(width) for y in range(height)]
+
+
+def passed_in_rounds(steps, times):
+    """For each of so many rounds, performed one behind the other, the edges that are passed in it."""
+    found = []
+    pose = (0, 0, 0)
+    for _ in range(times):
+        found.append(edges_passed(steps, pose, True))
+        pose = walk(steps, pose, True)[-1][:3]
+    return found
+
+
+def toggled(passed):
+    """The set of the edges that are left if edges are toggled one by one."""
+    left = set()
+    for edge in passed:
+        left ^= {edge}
+    return left
+
+
+def drawn_in_rounds(steps, times):
+    """The edges of the picture after so many rounds, as a set."""
+    return toggled([edge for edges in passed_in_rounds(steps, times) for edge in edges])
+
+
+# Rounds that drift along, across, backwards and slanting, some with the pen lifted at the end, in parts or throughout.
+DRIFTING = ["f", "f2 b", "f l f2 r", "u f d f", "( f2 l )4 u f", "f3 b2", "f2 b f b f", "b2 f", "b", "b3 u b", "l f r", "l f2 b r",
+            "r f3 b u f r3", "f l f r", "f l2 f3 l2", "f r f l", "f2 l f r b", "( f l )4 f", "( f l )4 f2", "( f r )4 u f3",
+            "( f3 l )4 u f d", "( f l )4 u l f r", "u f", "u f5 d u", "f4 u b3", "f5 b4", "f2 u f2 d f2 u b5",
+            "l f2 r f u b2 d f2", "f3 l f r b2 l b r", "( f2 l f r )3 u", "f u f d b2 f3", "( f3 l )4 ( f l )4 u f l f r",
+            "( f2 l )2 f u f d l f2 l u f3 d", "f10 b9", "l f3 l2 f r u f r2", "u f3 d ( f2 r )4 b u b"]
+# Rounds that close after 1, 2 and 4 rounds.
+CLOSING = ["", "l4", "f b", "( f l )4", "( f2 l )4 u", "f2 b2 u", "u", "f l f l f l f l", "f l2", "f2 l2 u", "f l f l", "f3 l f l2 f l3",
+           "l2", "u f r f r d", "f l", "f2 l", "f r", "f3 r u", "l", "f l f", "u f2 d f l f", "b2 r f", "f5 l f2 b", "( f l )3",
+           "( f2 l )2 f3 l f l3", "f l f2 l3 l2 f"]

@@ -1,4 +1,4 @@
-"""The examples of sections 4 to 12 of the document, word for word."""
+"""The examples of sections 4 to 15 of the document, word for word."""
 
 import unittest
 
@@ -115,6 +115,47 @@ class ExamplesTest(unittest.TestCase):
         self.assertEqual(
             [winding(Program("( f l )12"), (0, 0)), winding(Program("( f l )12"), (1, 0)), area_of(Program("( f2 r )4"))],
             [3, 0, -4])
+
+    def test_spans(self):
+        from plotpens.spans import covered, depth_at, odd_covered
+        some = [(0, 10 ** 30), (2, 10 ** 30 + 2), (5, 6)]
+        self.assertEqual([covered(some) - 10 ** 30, odd_covered(some), depth_at(some, 5)], [2, 5, 3])
+
+    def test_far(self):
+        from plotpens.far import count_edges, count_odd, faces_after, strokes_after
+        from plotpens.programs import Program
+        stair, square, dash, boxes = Program("f l f2 r"), Program("( f l )4"), Program("u f d f"), Program("( f2 l )4 u f")
+        counts = [[count_edges(stair, times) for times in [0, 2, 10 ** 12]],
+                  [count_edges(square, times) for times in [1, 2, 10 ** 30 - 1]]]
+        self.assertEqual(
+            [counts, count_odd(dash, 10 ** 12), strokes_after(dash, 10 ** 12), strokes_after(stair, 10 ** 12),
+             faces_after(boxes, 10 ** 30)],
+            [[[0, 6, 3000000000000], [4, 0, 4]], 2000000000000, 1000000000000, 1, 4])
+
+    def test_passes_in_many_rounds(self):
+        from plotpens.far import count_edges, count_passed, passes_at, rounds_passing
+        from plotpens.programs import Program
+        nibble = Program("f2 b")
+        self.assertEqual(
+            [passes_at(nibble, (3, 0, 0), 10), rounds_passing(nibble, (3, 0, 0)), count_passed(nibble, 5), count_edges(nibble, 5)],
+            [3, [2, 3], 6, 5])
+
+    def test_growth(self):
+        from plotpens.growth import growth_of, times_with
+        from plotpens.programs import Program
+        stair, boxes = Program("f l f2 r"), Program("( f2 l )4 u f")
+        self.assertEqual(
+            [growth_of(stair), growth_of(boxes), times_with(stair, 30), times_with(boxes, 12), times_with(boxes, 8)],
+            [(3, 0, 1), (0, 12, 2), ([10], None), ([], 2), ([1], None)])
+
+    def test_times_for(self):
+        from plotpens.far import picture_after
+        from plotpens.growth import times_for
+        from plotpens.programs import Program
+        stair = Program("f l f2 r")
+        self.assertEqual(
+            [times_for(stair, picture_after(stair, 700)), times_for(Program("( f l )4"), picture_after(stair, 1))],
+            [700, None])
 
     def test_table_of_programs(self):
         from plotpens.motions import Motion, motion_of

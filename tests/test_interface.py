@@ -7,14 +7,18 @@ import unittest
 
 import plotpens
 from helpers import nested
-from plotpens import errors, faces, motions, odds, paths, pictures, programs, sources, strokes, writing
+from plotpens import (errors, faces, far, growth, motions, odds, paths, pictures, programs, sources, spans, strokes,
+                      writing)
 from plotpens.faces import area_of, count_inside, inside_of, is_inside, outline_of, winding
+from plotpens.far import rounds_passing
+from plotpens.growth import times_with
 from plotpens.motions import Motion, motion_of, pen_after, pose_after
 from plotpens.odds import degree_at, ends_of, is_even, odd_points, parts_of
 from plotpens.paths import first_at, points_of, stretches_of
 from plotpens.pictures import Picture, drawn, edge_between, is_edge, passes_of
 from plotpens.programs import Program, count_steps, step_at, steps_from, written
 from plotpens.sources import names_of, read_source, routine
+from plotpens.spans import covered, depth_at, odd_covered
 from plotpens.strokes import fewest_plain, fewest_toggled, is_plain, is_toggled, plain_strokes, toggled_strokes
 from plotpens.writing import fewest_words, packed, program_for
 
@@ -35,6 +39,12 @@ FUNCTIONS = {
     writing: {"program_for": ["picture"], "fewest_words": ["program"], "packed": ["program"]},
     faces: {"inside_of": ["picture"], "count_inside": ["picture"], "is_inside": ["picture", "face"], "outline_of": ["faces"],
             "winding": ["program", "face"], "area_of": ["program"]},
+    spans: {"covered": ["intervals"], "odd_covered": ["intervals"], "depth_at": ["intervals", "place"]},
+    far: {"count_edges": ["program", "times"], "count_passed": ["program", "times"], "count_odd": ["program", "times"],
+          "strokes_after": ["program", "times"], "faces_after": ["program", "times"], "has_edge": ["program", "edge", "times"],
+          "passes_at": ["program", "edge", "times"], "picture_after": ["program", "times"],
+          "rounds_passing": ["program", "edge"]},
+    growth: {"growth_of": ["program"], "times_with": ["program", "count"], "times_for": ["program", "picture"]},
 }
 CLASSES = {
     Program: ("plotpens.programs", ["text"], ["__init__", "__len__", "__eq__", "__contains__", "__add__", "__mul__",
@@ -205,6 +215,15 @@ class ConventionsTest(unittest.TestCase):
         self.assertEqual(parts_of(wide), [row ^ row.moved(1000, 0), (row ^ row.moved(1000, 0)).moved(0, 1)])
         self.assertEqual(is_plain(wide, plain_strokes(wide)), True)
         self.assertEqual(len(plain_strokes(wide)), 2)
+
+    def test_larger_numbers_that_were_returned_may_be_passed_back(self):
+        deep = Program(nested(12, "f", 10 ** 30))
+        spans_of = [(0, deep.length), (deep.length - 5, deep.length + 5)]
+        self.assertEqual([covered(spans_of), odd_covered(spans_of)], [deep.length + 5, deep.length])
+        self.assertEqual(depth_at(spans_of, deep.length - 1), 2)
+        row = Program("f")
+        self.assertEqual(times_with(row, deep.length), ([deep.length], None))
+        self.assertEqual(rounds_passing(row, (deep.length, 0, 0)), [deep.length])
 
 
 class FormTest(unittest.TestCase):
