@@ -1,8 +1,9 @@
-"""What counts as an integer, a number of times, a point and a pose."""
+"""What counts as an integer, a decimal number, a number of times, a point and a pose."""
 
 from plotpens.errors import InvalidPoint, InvalidPose, InvalidTimes
 
 MOST_TIMES = 10 ** 30
+MOST_DIGITS = 31
 
 
 def is_integer(value):
@@ -28,6 +29,14 @@ def is_point(value):
 def is_pose(value):
     """Whether any value is a pose."""
     return is_tuple_of(value, 3) and is_point(value[:2]) and is_integer_within(value[2], 0, 3)
+
+
+def is_decimal(word):
+    """Whether a string is a decimal number, without leading zeros, that is not too long."""
+    # Python refuses to read a very long row of digits.
+    if len(word) > MOST_DIGITS or not word.isascii() or not word.isdigit():
+        return False
+    return word == "0" or not word.startswith("0")
 
 
 def check_times(times):

@@ -5,9 +5,10 @@ from plotpens.classes import classes_of, count_left, intervals_of, place_of
 from plotpens.errors import NotDrifting, TooLarge
 from plotpens.faces import check_even, count_inside, rows_inside
 from plotpens.odds import odd_points
-from plotpens.pictures import Picture, check_edge, drawn, ends_of_edge
+from plotpens.pictures import check_edge, drawn, ends_of_edge
 from plotpens.programs import MOST_STEPS, check_length, check_program
-from plotpens.rounds import closed_rounds, count_after, count_alike, drift_of, edges_after, first_round
+from plotpens.rounds import closed_rounds, count_alike, drift_of, first_round
+from plotpens.rows import count_in_rows, picture_of_rows, rows_after
 from plotpens.spans import count_around, count_covered_in
 from plotpens.tallies import odd_ones
 
@@ -17,7 +18,7 @@ MOST_EDGES = 4000
 def count_edges(program, times):
     """The number of the edges of the picture after so many rounds."""
     _check_rounds(program, times)
-    return count_after(program, times)
+    return count_in_rows(rows_after(program, times))
 
 
 def count_passed(program, times):
@@ -35,7 +36,7 @@ def count_odd(program, times):
     _check_rounds(program, times)
     drift = drift_of(program)
     if drift is None:
-        return len(odd_points(Picture(edges_after(program, times))))
+        return len(odd_points(_picture_after(program, times)))
     ends = [point for edge in first_round(program) for point in ends_of_edge(edge)]
     return count_left(classes_of(odd_ones(ends), drift), times)
 
@@ -52,7 +53,7 @@ def faces_after(program, times):
     _check_rounds(program, times)
     drift = drift_of(program)
     if drift is None or times == 0:
-        return count_inside(Picture(edges_after(program, times)))
+        return count_inside(_picture_after(program, times))
     picture = drawn(program)
     check_even(picture)
     faces = [(x, y) for y, left, right in rows_inside(picture) for x in range(left, right)]
@@ -79,9 +80,11 @@ def passes_at(program, edge, times):
 
 def picture_after(program, times):
     """The picture after so many rounds."""
-    if count_edges(program, times) > MOST_EDGES:
+    _check_rounds(program, times)
+    rows = rows_after(program, times)
+    if count_in_rows(rows) > MOST_EDGES:
         raise TooLarge(MOST_EDGES)
-    return Picture(edges_after(program, times))
+    return picture_of_rows(program, rows)
 
 
 def rounds_passing(program, edge):
@@ -100,6 +103,11 @@ def _check_rounds(program, times):
     check_program(program)
     check_times(times)
     check_length(program, MOST_STEPS)
+
+
+def _picture_after(program, times):
+    """The picture after so many rounds, if it is surely not too large."""
+    return picture_of_rows(program, rows_after(program, times))
 
 
 def _places_beside(program, edge, drift):

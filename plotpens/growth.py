@@ -4,9 +4,10 @@ from plotpens.checks import is_integer
 from plotpens.classes import classes_of, count_left
 from plotpens.errors import InvalidCount, NotDrifting
 from plotpens.motions import motion_of
-from plotpens.pictures import Picture, check_picture
+from plotpens.pictures import check_picture
 from plotpens.programs import check_length, check_program
-from plotpens.rounds import count_after, drift_of, edges_after, first_round
+from plotpens.rounds import drift_of, first_round
+from plotpens.rows import count_in_rows, picture_of_rows, rows_after
 from plotpens.tallies import odd_ones
 
 MOST_GROWING = 200
@@ -39,8 +40,9 @@ def times_for(program, picture):
     check_picture(picture)
     check_length(program, MOST_GROWING)
     for times in _times_to_try(program, picture):
-        # Counted first, for after so many rounds there may be more edges than can be listed.
-        if count_after(program, times) == len(picture) and Picture(edges_after(program, times)) == picture:
+        rows = rows_after(program, times)
+        # Counted first, for there may be more edges than can be listed.
+        if count_in_rows(rows) == len(picture) and picture_of_rows(program, rows) == picture:
             return times
     return None
 
@@ -78,11 +80,13 @@ def _times_to_try(program, picture):
         motion = motion_of(program)
         # Twice as many rounds as it takes to come back pass each edge an even number of times.
         return list(range(2 * motion.order()))
+    if not picture.edges:
+        return [0]
     drawn_places = classes_of(odd_ones(first_round(program)), drift)
     given_places = classes_of(picture.edges, drift)
     for first in drawn_places:
         if first in given_places:
             # The edge that has drifted most is always that of the last round, for no other round passes it, too.
             times = max(given_places[first]) - max(drawn_places[first]) + 1
-            return [0, times] if times > 0 else [0]
-    return [0]
+            return [times] if times > 0 else []
+    return []

@@ -100,6 +100,20 @@ def turned_point(point, quarters):
     return (x, y)
 
 
+def times_shifted(way, shift):
+    """The least number of times, from 0 on, that a shift has to be made for a way; None if there is none."""
+    dx, dy = shift
+    if dx != 0:
+        times = way[0] // dx
+    elif dy != 0:
+        times = way[1] // dy
+    else:
+        times = 0
+    if times >= 0 and way == (times * dx, times * dy):
+        return times
+    return None
+
+
 def check_motion(motion):
     if not isinstance(motion, Motion):
         raise InvalidMotion("not a Motion")

@@ -1,7 +1,7 @@
 """Paths: the points at which the pen is."""
 
 from plotpens.checks import check_point, check_pose
-from plotpens.motions import motion_of
+from plotpens.motions import motion_of, times_shifted
 from plotpens.programs import check_program
 from plotpens.tracks import ORIGIN, poses_of, track_of
 
@@ -47,19 +47,10 @@ def _first_drifting(poses, shift, point):
     length = len(poses) - 1
     found = []
     for index, (x, y, heading) in enumerate(poses):
-        rounds = _times_shifted((point[0] - x, point[1] - y), shift)
+        rounds = times_shifted((point[0] - x, point[1] - y), shift)
         if rounds is not None:
             found.append(rounds * length + index)
     return min(found, default=None)
-
-
-def _times_shifted(way, shift):
-    """The number of times, from 0 on, that a shift has to be made for a way; None if there is none."""
-    dx, dy = shift
-    times = way[0] // dx if dx != 0 else way[1] // dy
-    if times >= 0 and way == (times * dx, times * dy):
-        return times
-    return None
 
 
 def _first_closing(program, motion, point):

@@ -58,13 +58,7 @@ def edge_between(point, other_point):
     """The edge between two points, None if they are not neighbours."""
     check_point(point)
     check_point(other_point)
-    x, y = min(point, other_point)
-    last = max(point, other_point)
-    if last == (x + 1, y):
-        return (x, y, 0)
-    if last == (x, y + 1):
-        return (x, y, 1)
-    return None
+    return _edge_between(point, other_point)
 
 
 def drawn(program, *, start=(0, 0, 0), pen=True):
@@ -85,7 +79,7 @@ def passes_of(program, *, start=(0, 0, 0), pen=True):
 def edges_passed(program, start, pen):
     """The edges that are passed with the pen down, one for each pass."""
     moves = track_of(program, start, pen)
-    return [edge_between(before, after) for before, after, stretch in moves if stretch is not None]
+    return [_edge_between(before, after) for before, after, stretch in moves if stretch is not None]
 
 
 def ends_of_edge(edge):
@@ -111,6 +105,17 @@ def check_edges(edges):
 def check_picture(picture):
     if not isinstance(picture, Picture):
         raise InvalidPicture("not a Picture")
+
+
+def _edge_between(point, other_point):
+    """What edge_between tells of two points."""
+    x, y = min(point, other_point)
+    last = max(point, other_point)
+    if last == (x + 1, y):
+        return (x, y, 0)
+    if last == (x, y + 1):
+        return (x, y, 1)
+    return None
 
 
 def _turned_edge(edge):

@@ -1,17 +1,26 @@
 """Tracks: what short programs do, step by step."""
 
-from plotpens.motions import motion_of_letter
 from plotpens.programs import written
 
 ORIGIN = (0, 0, 0)
+AHEAD = ((1, 0), (0, 1), (-1, 0), (0, -1))
 
 
 def poses_of(program, start):
     """The list of the poses: the first one, and one after each step. TooLarge(1000) is raised for longer programs."""
+    x, y, heading = start
     poses = [start]
     for step in written(program):
-        motion = motion_of_letter(step)
-        poses.append(motion(poses[-1]))
+        dx, dy = AHEAD[heading]
+        if step == "f":
+            x, y = x + dx, y + dy
+        elif step == "b":
+            x, y = x - dx, y - dy
+        elif step == "l":
+            heading = (heading + 1) % 4
+        elif step == "r":
+            heading = (heading + 3) % 4
+        poses.append((x, y, heading))
     return poses
 
 

@@ -1,11 +1,10 @@
 """The words of program texts: which ones there are, where they may stand, and how they are written otherwise."""
 
-from plotpens.checks import MOST_TIMES
+from plotpens.checks import MOST_TIMES, is_decimal
 
 LETTERS = ("f", "b", "l", "r", "u", "d")
 MOST_WORDS = 1000
 MOST_DEPTH = 12
-MOST_DIGITS = 31
 MIRRORED = {"l": "r", "r": "l"}
 UNDONE = {"f": "b", "b": "f", "l": "r", "r": "l"}
 
@@ -78,7 +77,4 @@ def _is_counted(word):
 
 
 def _is_number(digits):
-    # A long row of digits is no number of a program text, and Python refuses to read it.
-    if len(digits) > MOST_DIGITS or not digits.isascii() or not digits.isdigit():
-        return False
-    return not digits.startswith("0") and 2 <= int(digits) <= MOST_TIMES
+    return is_decimal(digits) and 2 <= int(digits) <= MOST_TIMES

@@ -1,4 +1,4 @@
-"""The examples of sections 4 to 15 of the document, word for word."""
+"""The examples of sections 4 to 19 of the document, word for word."""
 
 import unittest
 
@@ -156,6 +156,42 @@ class ExamplesTest(unittest.TestCase):
         self.assertEqual(
             [times_for(stair, picture_after(stair, 700)), times_for(Program("( f l )4"), picture_after(stair, 1))],
             [700, None])
+
+    def test_meetings(self):
+        from plotpens.meetings import meeting
+        from plotpens.programs import Program
+        ahead = Program("f")
+        steps, point = meeting(Program("f2 b"), (0, 0, 0), Program("l"), (10 ** 30, 0, 0))
+        self.assertEqual(
+            [meeting(ahead, (0, 0, 0), ahead, (10, 0, 2)), meeting(ahead, (0, 0, 0), ahead, (9, 0, 2)), steps == 3 * 10 ** 30 - 4],
+            [(5, (5, 0)), None, True])
+
+    def test_sheets(self):
+        from plotpens.programs import Program
+        from plotpens.sheets import Sheet
+        sheet, stair = Sheet(), Program("f l f2 r")
+        told = [sheet.play(stair, times=2), sheet.pose, sheet.jump((0, 0, 0)), sheet.play(stair), len(sheet.preview(("wipe",))),
+                len(sheet)]
+        self.assertEqual(
+            [told, sheet.undo(), sheet.undo(), sheet.pose, sheet.log() == [("play", stair, 2)], len(Sheet.of((0, 0, 0), (1, 0, 0)))],
+            [[6, (2, 4, 0), (2, 4, 0), 3, 0, 3], None, None, (2, 4, 0), True, 2])
+
+    def test_art(self):
+        from plotpens.art import read_art, show_art
+        from plotpens.faces import outline_of
+        art = show_art(outline_of([(0, 0), (1, 1)]))
+        self.assertEqual(
+            [art, read_art(art).edges[:2], read_art(["1-1"]).edges],
+            [['. 2-2', '  | |', '2-4-2', '| |  ', '2-2 .'], ((0, 0, 0), (0, 0, 1)), ((0, 0, 0),)])
+
+    def test_console(self):
+        from plotpens.console import Console
+        console = Console()
+        kept = console.say("program f l f2 r")
+        self.assertEqual(kept, "ok")
+        self.assertEqual(
+            [console.say(row) for row in ["motion", "play 2", "pose", "odd", "strokes", "count 1000", "growth", "art 0", "undo", "odd"]],
+            ['0 1 2', '6', '2 4 0', '0,0 2,4', '1 1', '3000', '3 0 1', '. . 1', 'ok', '-'])
 
     def test_table_of_programs(self):
         from plotpens.motions import Motion, motion_of

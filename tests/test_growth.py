@@ -19,6 +19,7 @@ MORE = [text for text in some_texts(151, 400, 11) if motion_of(Program(text)).or
 APART = {"f u f97 d f u b98": (0, 196, 98), "f u f50 d f u b51": (0, 102, 51), "f u f20 d f u f9 d f u b31": (1, 0, 31),
          "f b f u f7 d f b u b6": (1, 0, 1), "f l f2 r": (3, 0, 1), "( f2 l )4 u f": (0, 12, 2), "u f": (0, 0, 1), "f b f": (1, 0, 1),
          "f u f2 b2": (1, 0, 1), "( f l )4 u f2": (4, 0, 1), "( f l )4 u f": (2, 2, 1), "( f3 l )4 u f": (2, 18, 3),
+         "u b50 d f u f49 d f": (0, 100, 50), "u f50 d b u b49 d b": (0, 100, 50), "u l f50 d b u b49 d b r": (0, 100, 50),
          "f200": (200, 0, 1), "f101 b99": (2, 0, 1), "b f2 u f8 d f u b9": (0, 18, 9)}
 WRONG_COUNTS = WRONG_VALUES[:3] + WRONG_VALUES[7:] + ["", "1", -1, -10 ** 99, [1], (1,), [], ()]
 WRONG_PROGRAMS = WRONG_VALUES + ["f", "", (), [Program("f")], drawn(Program("f"))]

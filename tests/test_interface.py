@@ -7,8 +7,10 @@ import unittest
 
 import plotpens
 from helpers import nested
-from plotpens import (errors, faces, far, growth, motions, odds, paths, pictures, programs, sources, spans, strokes,
-                      writing)
+from plotpens import (art, errors, faces, far, growth, meetings, motions, odds, paths, pictures, programs, sources, spans,
+                      strokes, writing)
+from plotpens.art import read_art, show_art
+from plotpens.console import Console
 from plotpens.faces import area_of, count_inside, inside_of, is_inside, outline_of, winding
 from plotpens.far import rounds_passing
 from plotpens.growth import times_with
@@ -17,6 +19,7 @@ from plotpens.odds import degree_at, ends_of, is_even, odd_points, parts_of
 from plotpens.paths import first_at, points_of, stretches_of
 from plotpens.pictures import Picture, drawn, edge_between, is_edge, passes_of
 from plotpens.programs import Program, count_steps, step_at, steps_from, written
+from plotpens.sheets import Sheet
 from plotpens.sources import names_of, read_source, routine
 from plotpens.spans import covered, depth_at, odd_covered
 from plotpens.strokes import fewest_plain, fewest_toggled, is_plain, is_toggled, plain_strokes, toggled_strokes
@@ -45,6 +48,8 @@ FUNCTIONS = {
           "passes_at": ["program", "edge", "times"], "picture_after": ["program", "times"],
           "rounds_passing": ["program", "edge"]},
     growth: {"growth_of": ["program"], "times_with": ["program", "count"], "times_for": ["program", "picture"]},
+    meetings: {"meeting": ["program", "start", "other", "other_start"]},
+    art: {"show_art": ["picture"], "read_art": ["rows"]},
 }
 CLASSES = {
     Program: ("plotpens.programs", ["text"], ["__init__", "__len__", "__eq__", "__contains__", "__add__", "__mul__",
@@ -53,6 +58,9 @@ CLASSES = {
                                                         "turn", "shift", "order"]),
     Picture: ("plotpens.pictures", ["edges"], ["__init__", "__len__", "__eq__", "__contains__", "__xor__", "edges", "moved",
                                                "turned"]),
+    Sheet: ("plotpens.sheets", [], ["__init__", "__len__", "__eq__", "MOST", "of", "picture", "pose", "play", "jump", "lay", "wipe",
+                                    "undo", "log", "preview"]),
+    Console: ("plotpens.console", [], ["__init__", "say"]),
 }
 DEFAULTS = {"start": (0, 0, 0), "pen": True}
 FIELDS = {"InvalidText": ["index"], "InvalidSource": ["line", "index"], "TooDeep": ["limit"], "TooLarge": ["limit"]}
@@ -76,7 +84,8 @@ class InterfaceTest(unittest.TestCase):
         for module, functions in FUNCTIONS.items():
             for name in functions:
                 for parameter in inspect.signature(getattr(module, name)).parameters.values():
-                    default = DEFAULTS.get(parameter.name, inspect.Parameter.empty)
+                    by_keyword = parameter.kind == inspect.Parameter.KEYWORD_ONLY
+                    default = DEFAULTS[parameter.name] if by_keyword else inspect.Parameter.empty
                     self.assertEqual(parameter.default, default)
 
     def test_classes_define_what_is_listed(self):
@@ -91,6 +100,21 @@ class InterfaceTest(unittest.TestCase):
         self.assertEqual(parameters_of(Motion.order), ["self"])
         self.assertEqual(parameters_of(Picture.moved), ["self", "dx", "dy"])
         self.assertEqual(parameters_of(Picture.turned), ["self", "quarters"])
+        self.assertEqual(parameters_of(Sheet.play), ["self", "program", "*times"])
+        self.assertEqual(inspect.signature(Sheet.play).parameters["times"].default, 1)
+        self.assertEqual([parameters_of(method) for method in [Sheet.jump, Sheet.lay, Sheet.wipe, Sheet.undo, Sheet.log]],
+                         [["self", "pose"], ["self", "picture"], ["self"], ["self"], ["self"]])
+        self.assertEqual(parameters_of(Console.say), ["self", "row"])
+        for method in [Sheet.of, Sheet.preview]:
+            kinds = [parameter.kind for parameter in inspect.signature(method).parameters.values()]
+            self.assertEqual(kinds[-1], inspect.Parameter.VAR_POSITIONAL)
+        self.assertIsInstance(vars(Sheet)["of"], classmethod)
+
+    def test_properties(self):
+        for kind, names in {Program: ["text", "length", "depth"], Motion: ["turn", "shift"], Picture: ["edges"],
+                            Sheet: ["picture", "pose"]}.items():
+            for name in names:
+                self.assertIsInstance(vars(kind)[name], property)
 
     def test_errors_take_their_fields(self):
         for name, fields in FIELDS.items():
@@ -225,6 +249,14 @@ class ConventionsTest(unittest.TestCase):
         self.assertEqual(times_with(row, deep.length), ([deep.length], None))
         self.assertEqual(rounds_passing(row, (deep.length, 0, 0)), [deep.length])
 
+    def test_larger_pictures_on_sheets_and_as_art(self):
+        field = outline_of([(x, y) for x in range(40) for y in range(40) if (x + y) % 2 == 0])
+        self.assertEqual(len(field), 3200)
+        self.assertEqual(read_art(show_art(field)), field)
+        sheet = Sheet()
+        self.assertEqual(sheet.lay(field), 3200)
+        self.assertEqual(sheet.lay(field), 0)
+
 
 class FormTest(unittest.TestCase):
     def test_the_folder_holds_only_python_files(self):
@@ -244,12 +276,12 @@ class FormTest(unittest.TestCase):
                 if isinstance(node, ast.FunctionDef):
                     self.assertLessEqual(node.end_lineno - node.lineno + 1, 40, node.name)
 
-    def test_imports_are_the_packages_own(self):
+    def test_imports_are_the_packages_own_or_from_math(self):
         for path in PACKAGE.glob("*.py"):
             for node in ast.walk(ast.parse(path.read_text(encoding="utf-8"))):
                 self.assertNotIsInstance(node, ast.Import)
                 if isinstance(node, ast.ImportFrom):
-                    self.assertTrue(node.module.startswith("plotpens."), node.module)
+                    self.assertTrue(node.module.startswith("plotpens.") or node.module == "math", node.module)
 
 
 if __name__ == "__main__":
